@@ -1,0 +1,1 @@
+"""Promises of food, handed on over a radio that loses."""
