@@ -1,8 +1,10 @@
 """Reads the calls on one object, one behind another, and answers them."""
 
 from radiofood.food import call_come, call_join, call_lay, call_look, call_split, call_use
-from radiofood.names import AGAIN, ASK, BEGIN, COME, GIVE, HEAR, JOIN, LAY, SPLIT, USE
-from radiofood.radio import call_again, call_ask, call_give, call_hear
+from radiofood.names import AGAIN, ARM, ASK, AUDIT, BEGIN, CLEAR, COME, COUNTS, DISARM, ENTRY, GIVE, HEAR, JOIN, LAY
+from radiofood.names import LOOK, MESSAGE, NOT_ARMED, PAPER, SPLIT, TIN, USE
+from radiofood.radio import call_again, call_ask, call_clear, call_give, call_hear
+from radiofood.telling import call_air, call_audit, call_counts, call_entry, call_message, call_paper, call_tin
 from radiofood.world import World
 
 # By a call's number: the lowest and the highest value of each of its arguments.
@@ -18,6 +20,16 @@ RANGES = (
     ((0, 399),),  # hear: m
     ((0, 5), (100, 799)),  # use: p, i
     ((0, 5),),  # look: p
+    ((0, 1000),),  # arm: j
+    (),  # disarm
+    ((0, 5),),  # paper: p
+    ((0, 5),),  # tin: d
+    ((0, 5), (0, 5)),  # counts: p, d
+    ((0, 399),),  # message: m
+    ((0, 5),),  # audit: d
+    ((0, 5), (100, 799)),  # entry: p, i
+    (),  # clear
+    (),  # air
 )
 
 
@@ -43,8 +55,8 @@ def answer_call(world, call, numbers):
         return [0]
     if len(world.parties) == 0:
         return [-2]
-    if call == HEAR:
-        return call_hear(world, numbers[0])
+    if not names_a_party(call):
+        return answer_all(world, call, numbers)
     if numbers[0] >= len(world.parties):
         return [-3]
     return answer_party(world, world.parties[numbers[0]], call, numbers)
@@ -55,6 +67,10 @@ def are_in_range(numbers, ranges):
         if number < bounds[0] or number > bounds[1]:
             return False
     return True
+
+
+def names_a_party(call):
+    return call in (COME, LAY, SPLIT, JOIN, GIVE, AGAIN, ASK, USE, LOOK, PAPER, COUNTS, ENTRY)
 
 
 def answer_party(world, party, call, numbers):
@@ -74,4 +90,33 @@ def answer_party(world, party, call, numbers):
         return call_ask(world, party, numbers[1])
     if call == USE:
         return call_use(world, party, numbers[1])
-    return call_look(world, party)
+    if call == LOOK:
+        return call_look(world, party)
+    if call == PAPER:
+        return call_paper(party)
+    if call == COUNTS:
+        return call_counts(world, party, numbers[1])
+    return call_entry(party, numbers[1])
+
+
+def answer_all(world, call, numbers):
+    if call == HEAR:
+        return call_hear(world, numbers[0])
+    if call == ARM:
+        return call_arm(world, numbers[0])
+    if call == DISARM:
+        return call_arm(world, NOT_ARMED)
+    if call == TIN:
+        return call_tin(world, numbers[0])
+    if call == MESSAGE:
+        return call_message(world, numbers[0])
+    if call == AUDIT:
+        return call_audit(world, numbers[0])
+    if call == CLEAR:
+        return call_clear(world)
+    return call_air(world)
+
+
+def call_arm(world, j):
+    world.armed = j
+    return [0]

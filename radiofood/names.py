@@ -28,6 +28,16 @@ ASK = 7
 HEAR = 8
 USE = 9
 LOOK = 10
+ARM = 11
+DISARM = 12
+PAPER = 13
+TIN = 14
+COUNTS = 15
+MESSAGE = 16
+AUDIT = 17
+ENTRY = 18
+CLEAR = 19
+AIR = 20
 
 # Depots are numbered from 0, so a party that is away is at none of them.
 AWAY = -1

@@ -1,6 +1,6 @@
-"""The calls that send or hear messages: giving, giving again, asking, hearing."""
+"""The calls that send or hear messages: giving, giving again, asking, hearing, clearing."""
 
-from radiofood.names import CUT_OFF, MOST_MADE, MOST_MESSAGES, NO_ANSWER
+from radiofood.names import CUT_OFF, MOST_MADE, MOST_MESSAGES, NO_ANSWER, NOT_ARMED
 from radiofood.names import GIVEN, HELD, OVER, REFUSED, SETTLED
 from radiofood.names import KIND_ASK, KIND_GIFT, KIND_GOT, KIND_REFUSED
 from radiofood.world import Message
@@ -58,7 +58,10 @@ def call_hear(world, m):
         return [-4]
     if air_is_full(world):
         return [-7]
-    message = world.messages[m]
+    return hear_message(world, world.messages[m])
+
+
+def hear_message(world, message):
     if message.kind == KIND_GIFT:
         return hear_and_answer(world, message, HELD)
     if message.kind == KIND_ASK:
@@ -93,3 +96,30 @@ def hear_answer(world, message, mark):
             return [CUT_OFF]
         given.mark = mark
     return [0, NO_ANSWER]
+
+
+def call_clear(world):
+    if world.armed != NOT_ARMED:
+        return [-4]
+    gifts = unsettled_gifts(world)
+    if 2 * len(gifts) + len(world.messages) > MOST_MESSAGES:
+        return [-7]
+    for party, given in gifts:
+        settle_gift(world, party, given)
+    return [0, len(gifts), len(unsettled_gifts(world))]
+
+
+def unsettled_gifts(world):
+    gifts = []
+    for party in world.parties:
+        for entry in party.entries:
+            if entry.mark == GIVEN:
+                gifts.append((party, entry))
+    return gifts
+
+
+# Not by call_hear: the answer to the last gift may be the 400th message, and is heard all the same.
+def settle_gift(world, party, given):
+    gift = send_about(world, party, given, KIND_GIFT)
+    heard = hear_message(world, world.messages[gift])
+    hear_message(world, world.messages[heard[1]])

@@ -4,6 +4,7 @@ from radiofood.ice import answer_call, answers
 from radiofood.world import World
 
 BEGIN, COME, LAY, SPLIT, JOIN, GIVE, AGAIN, ASK, HEAR, USE, LOOK = range(11)
+ARM, DISARM, PAPER, TIN, COUNTS, MESSAGE, AUDIT, ENTRY, CLEAR, AIR = range(11, 21)
 HELD, BEING_LAID, GIVEN, SETTLED, BEING_USED, USED, OVER, REFUSED = range(8)
 GIFT_MESSAGE, GOT_MESSAGE, ASK_MESSAGE, REFUSED_MESSAGE = range(4)
 
@@ -26,6 +27,20 @@ def told(*calls):
 
 def last_told(*calls):
     return told(*calls)[-1]
+
+
+def shown(*calls, parties=2, depots=1):
+    """What paper, tin, message and air tell behind these calls."""
+    air = last_told(*calls, (AIR,))
+    looks = [(PAPER, p) for p in range(parties)] + [(TIN, d) for d in range(depots)]
+    rows = told(*calls, *looks, *[(MESSAGE, m) for m in range(air[0])])[len(calls):]
+    keys = [f"paper {p}" for p in range(parties)] + [f"tin {d}" for d in range(depots)]
+    view = dict(zip(keys, rows))
+    view["messages"] = rows[len(keys):]
+    view["armed"] = air[1]
+    view["laid"] = air[2]
+    view["eaten"] = air[3:]
+    return view
 
 
 def say(world, *call):
